@@ -1,0 +1,78 @@
+package rewrite_test
+
+import (
+	"testing"
+
+	"concord/api"
+)
+
+// taker makes queries out of bytes: each choice takes one, and there is always one more, a 0.
+type taker struct {
+	bytes []byte
+}
+
+func (k *taker) next(n int) int {
+	if len(k.bytes) == 0 {
+		return 0
+	}
+	x := int(k.bytes[0])
+	k.bytes = k.bytes[1:]
+	return x % n
+}
+
+func (k *taker) weight() uint64 {
+	return []uint64{1, 0, 2, 3, 1 << 32, 1<<32 + 1, 1 << 44, 1<<53 - 1, 1 << 63, 1<<64 - 1}[k.next(10)]
+}
+
+func (k *taker) query(depth int) api.Query {
+	kind := k.next(12)
+	if depth == 0 {
+		kind %= 6
+	}
+	switch kind {
+	case 0:
+		return none
+	case 1:
+		return all
+	case 2:
+		return has(k.next(3))
+	case 3:
+		return phrase(0, k.next(2), k.weight(), []string{"a", "a b", "b a a"}[k.next(3)])
+	case 4, 5:
+		return term(0, []string{"a", "b", "c", "d"}[k.next(4)], k.weight())
+	case 6:
+		return not(k.query(depth - 1))
+	case 7:
+		return boost(k.weight(), k.query(depth-1))
+	case 8:
+		return fixed(k.weight(), k.query(depth-1))
+	case 9:
+		return most(k.kids(depth)...)
+	}
+	n, kids, signs := k.next(4), k.kids(depth), ""
+	for range kids {
+		signs += string(" +-"[k.next(3)])
+	}
+	return list(n, signs, kids...)
+}
+
+func (k *taker) kids(depth int) []api.Query {
+	kids := []api.Query{k.query(depth - 1)}
+	for range k.next(4) {
+		kids = append(kids, k.query(depth-1))
+	}
+	return kids
+}
+
+// FuzzQuery holds every promise over the queries that bytes make.
+func FuzzQuery(f *testing.F) {
+	f.Add([]byte{10, 1, 4, 0, 2, 2, 10, 0, 4, 1, 1, 6, 4, 2, 2, 1, 1, 2, 0, 2})
+	f.Add([]byte{7, 4, 11, 2, 4, 0, 0, 3, 9, 4, 1, 1, 1, 4, 2, 8, 3, 6, 1, 0, 0, 0})
+	f.Fuzz(func(t *testing.T, data []byte) {
+		q := (&taker{data[:min(len(data), 200)]}).query(8)
+		holdQuery(t, q)
+		holdAgain(t, q)
+		m := newMaker(int64(len(data)))
+		holdMeaning(t, q, m.worlds()...)
+	})
+}
